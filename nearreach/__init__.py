@@ -1,0 +1,1 @@
+"""Nearreach: the longest piece, and how far beyond it one must see."""
