@@ -34,6 +34,11 @@ def is_unlike_signs(thing):
     return len(set(thing)) == len(thing) and all([is_sign(sign) for sign in thing])
 
 
+def rising(numbers):
+    """The row of some numbers in order, none twice."""
+    return tuple(sorted(set(numbers)))
+
+
 def is_same(thing, told):
     """True just where thing, whatever it is, is told: a number, or a row of such things."""
     # Python's == takes True for 1, so each number is looked at by itself.

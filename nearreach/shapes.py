@@ -4,6 +4,7 @@ from nearreach.plain import is_number_from, is_row, is_unlike_signs
 
 DEEPEST = 5
 MOST_PARTS = 24
+HEAVIEST = 10
 
 
 def is_shape(thing):

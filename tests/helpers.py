@@ -2,6 +2,7 @@
 
 import copy
 import random
+import re
 
 
 class EqualToAll:
@@ -25,7 +26,7 @@ def odd_things():
     return [
         None, True, False, 0, 1, -1, 2, 6, 7, 10 ** 999, -(10 ** 999), 3 + 0j,
         "", "\t", "%", "\x7f", "\u00e9", "\ud800", "no text of any tongue", "x" * 1000, b"", b"a", bytearray(b"a"),
-        (), (None,), ("one",), ("a", ()), (0,), (True,), [], ["a"], [()], {}, {"a": 1}, set(), {"a"}, frozenset("a"),
+        (), (None,), ("one",), ("a", {}), (0,), (True,), [], ["a"], [()], {}, {"a": 1}, set(), {"a"}, frozenset("a"),
         range(3), object(), EqualToAll(), len, int, lambda: 1, Ellipsis, NotImplemented,
         deep((), 29), deep("a", 29), (0,) * 2000, ("a",) * 2000, [None] * 2000, ((),) * 2000,
     ]
@@ -117,6 +118,25 @@ def some_shape(source, signs, deepest):
     return (kind, tuple(some_shape(source, signs, deepest - 1) for _ in range(source.randint(low, 3))))
 
 
+def plain_depth(thing):
+    """How deep a shape is, 0 where a thing is none; without a look at how big it is."""
+    if type(thing) is not tuple or not thing or type(thing[0]) is not str:
+        return 0
+    if thing[0] == "one":
+        return int(len(thing) == 2 and type(thing[1]) is str and re.fullmatch("[ -$&-~\n]{1,6}", thing[1]) is not None
+                   and max(map(thing[1].count, thing[1])) == 1)
+    if thing[0] == "times":
+        counts = [(low, high) for high in range(5) for low in range(high + 1)]
+        parts = [thing[1]] if repr(thing[2:]) in map(repr, counts) else None
+    elif len(thing) == 2 and thing[0] in ("row", "either") and type(thing[1]) is tuple:
+        parts = thing[1] if int(thing[0] == "either") <= len(thing[1]) <= 6 else None
+    else:
+        parts = [thing[1]] if len(thing) == 2 and thing[0] == "many" else None
+    if parts is None or 0 in map(plain_depth, parts):
+        return 0
+    return 1 + max(map(plain_depth, parts), default=0)
+
+
 def plain_weight(shape):
     """The weight, as the count of the ones that stand there when every times is written out."""
     if shape[0] == "one":
@@ -161,3 +181,90 @@ def words_upto(tongue, size):
         last = [word + sign for word in last for sign in tongue]
         words += last
     return words
+
+
+# Courses
+
+def courses(shape, again, longest):
+    """All courses of a shape with at most so many places, a many gone through at most so many times."""
+
+    def joined(some, others):
+        return {x + y for x in some for y in others if len(x) + len(y) <= longest}
+
+    def again_and_again(parts, low):
+        """The courses of the first n parts, n being low at least."""
+        told, found = {()}, set()
+        for count in range(len(parts) + 1):
+            found |= told if count >= low else set()
+            told = joined(told, parts[count]) if count < len(parts) else told
+        return found
+
+    def of(shape, at):
+        if shape[0] == "one":
+            return {(at,)}, at + 1
+        if shape[0] == "many":
+            part, at = of(shape[1], at)
+            return again_and_again([part] * again, 0), at
+        parts = []
+        for part in ([shape[1]] * shape[3] if shape[0] == "times" else shape[1]):
+            told, at = of(part, at)
+            parts.append(told)
+        if shape[0] == "either":
+            return set().union(*parts), at
+        return again_and_again(parts, shape[2] if shape[0] == "times" else len(parts)), at
+
+    return of(shape, 1)[0]
+
+
+def signs_of_places(shape):
+    if shape[0] == "one":
+        return [shape[1]]
+    parts = {"many": [shape[1]], "times": [shape[1]] * shape[-1] if shape[0] == "times" else []}.get(shape[0], shape[1])
+    return [signs for part in parts for signs in signs_of_places(part)]
+
+
+def plain_spread(shape):
+    """The spread, read off the courses."""
+    signs = ["", *signs_of_places(shape)]
+    told = courses(shape, 2, 99)
+    nexts = [tuple(sorted({course[0] for course in told if course}))]
+    for place in range(1, len(signs)):
+        nexts.append(tuple(sorted(
+            {after for course in told for one, after in zip(course, course[1:]) if one == place})))
+    return tuple(signs), tuple(nexts), tuple(sorted({course[-1] if course else 0 for course in told}))
+
+
+def light_shapes(count, heaviest, seed, signs="ab"):
+    """Shapes of at most that weight, and not with too many courses to be told one by one."""
+    shapes = []
+    while len(shapes) < count:
+        seed += 1
+        for shape in some_shapes(100, signs=signs, deepest=4, seed=seed):
+            if plain_weight(shape) <= heaviest and repr(shape).count("many") <= 3:
+                shapes.append(shape)
+    return shapes[:count]
+
+
+# Tables
+
+def some_table(source, tongue, rooms):
+    """A table whose rooms are all led to."""
+    while True:
+        goes = tuple(tuple(source.randrange(rooms) for _ in tongue) for _ in range(rooms))
+        kinds = (-1, *[source.choice([-1, -1, -1, 0, 1, 5]) for _ in range(rooms - 1)])
+        found = {0}
+        for _ in range(rooms):
+            found |= {to for room in found for to in goes[room]}
+        if len(found) == rooms:
+            return tongue, goes, kinds
+
+
+def some_tables(count, seed=1):
+    source = random.Random(seed)
+    return [some_table(source, source.choice(["a", "ab", "ba", "c\na"]), source.randint(1, 4)) for _ in range(count)]
+
+
+def walk(table, room, word):
+    for sign in word:
+        room = table[1][room][table[0].index(sign)]
+    return room

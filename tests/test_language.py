@@ -173,7 +173,7 @@ class LanguageTest(unittest.TestCase):
                 if not is_call_of(node, ON_THE_SPOT):
                     continue
                 parent = above[node]
-                takers = {"list", "tuple", "dict", "sorted", "sum", "any", "all", "enumerate", "zip", "bytes", "min", "max"}
+                takers = set("list tuple dict sorted sum any all enumerate zip bytes min max".split())
                 if is_call_of(node, {"range"}):
                     takers = takers | {"reversed", "len"}
                 if isinstance(parent, ast.Call):

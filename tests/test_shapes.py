@@ -1,9 +1,8 @@
-import re
 import unittest
 
 from nearreach.shapes import is_shape, parts_of, weight
 from tests.helpers import (
-    EqualToAll, changed, either, is_kept, many, odd_things, one, plain_weight, row, some_shapes, times,
+    EqualToAll, changed, either, is_kept, many, odd_things, one, plain_depth, plain_weight, row, some_shapes, times,
 )
 
 A = one("a")
@@ -26,25 +25,6 @@ BAD = [
     times(A, "0", 2), times(A, 0, None), times(A, 0, 10 ** 999), times(None, 1, 2), times((A,), 1, 2),
     ["times", A, 1, 2], (EqualToAll(), "a"), (b"one", "a"), (("one",), "a"), ((), ()),
 ]
-
-
-def plain_depth(thing):
-    """How deep a shape is, 0 where a thing is none; without a look at how big it is."""
-    if type(thing) is not tuple or not thing or type(thing[0]) is not str:
-        return 0
-    if thing[0] == "one":
-        return int(len(thing) == 2 and type(thing[1]) is str and re.fullmatch("[ -$&-~\n]{1,6}", thing[1]) is not None
-                   and max(map(thing[1].count, thing[1])) == 1)
-    if thing[0] == "times":
-        counts = [(low, high) for high in range(5) for low in range(high + 1)]
-        parts = [thing[1]] if repr(thing[2:]) in map(repr, counts) else None
-    elif len(thing) == 2 and thing[0] in ("row", "either") and type(thing[1]) is tuple:
-        parts = thing[1] if int(thing[0] == "either") <= len(thing[1]) <= 6 else None
-    else:
-        parts = [thing[1]] if len(thing) == 2 and thing[0] == "many" else None
-    if parts is None or 0 in map(plain_depth, parts):
-        return 0
-    return 1 + max(map(plain_depth, parts), default=0)
 
 
 def wrapped(shape):
@@ -117,7 +97,8 @@ class IsShapeTest(unittest.TestCase):
 class WeightTest(unittest.TestCase):
     def test_weights(self):
         for shape, number in [
-            (A, 1), (one("abcdef"), 1), (row(), 0), (row(A, A), 2), (either(A, A, A), 3), (many(A), 1), (many(row()), 0),
+            (A, 1), (one("abcdef"), 1), (row(), 0), (row(A, A), 2), (either(A, A, A), 3), (many(A), 1),
+            (many(row()), 0),
             (times(A, 0, 4), 4), (times(A, 3, 3), 3), (times(A, 0, 0), 0), (times(times(A, 1, 3), 2, 4), 12),
             (times(times(row(A, A), 0, 0), 4, 4), 0), (times(times(A, 0, 4), 0, 0), 0),
             (row(A, times(either(A, many(A)), 1, 2)), 5), (times(times(times(times(A, 4, 4), 4, 4), 4, 4), 4, 4), 256),

@@ -92,7 +92,8 @@ class TakingTest(unittest.TestCase):
 class WordOfTest(unittest.TestCase):
     def test_all_kinds_within_one_another(self):
         paper = ("row", (
-            ("many", (("one", "a"), ("one", "\n"))), ("either", 3, ("times", (("one", "c"),))), ("row", ()), ("one", "~"),
+            ("many", (("one", "a"), ("one", "\n"))), ("either", 3, ("times", (("one", "c"),))),
+            ("row", ()), ("one", "~"),
         ))
         self.assertEqual(word_of(paper), "a\nc~")
 
