@@ -34,15 +34,21 @@ def are_kinds(thing, rooms):
 
 def is_all_led_to(goes):
     """True just where some word leads to each room."""
+    return len(rooms_led_to(goes)) == len(goes)
+
+
+def rooms_led_to(goes):
+    """The rooms to which words lead, in the order of the least words that lead to them."""
     found = [0]
+    seen = {0: True}
     looked = 0
     while looked < len(found):
-        row = goes[found[looked]]
-        for room in row:
-            if room not in found:
+        for room in goes[found[looked]]:
+            if room not in seen:
+                seen[room] = True
                 found.append(room)
         looked += 1
-    return len(found) == len(goes)
+    return found
 
 
 def looked_table(thing):
@@ -52,11 +58,16 @@ def looked_table(thing):
     return thing
 
 
+def looked_text(tongue, thing):
+    """The text of the tongue that was handed in, whatever it is; NoText."""
+    if not is_text(tongue, thing):
+        raise NoText("no text of the tongue")
+    return thing
+
+
 def room_of(table, word):
     """The room behind the word; NoText."""
-    if not is_text(table[0], word):
-        raise NoText("no text of the tongue")
-    return room_from(table, 0, word)
+    return room_from(table, 0, looked_text(table[0], word))
 
 
 def kind_of(table, word):
@@ -67,8 +78,32 @@ def kind_of(table, word):
 
 def room_from(table, room, word):
     """The room to which the word's signs lead from a room."""
+    return rooms_along(table, room, word)[-1]
+
+
+def rooms_along(table, room, word):
+    """The room itself, and then the one to which each of the word's signs leads, one by one."""
     tongue, goes, kinds = table
-    place = room
+    rooms = [room]
     for sign in word:
-        place = goes[place][tongue.index(sign)]
-    return place
+        rooms.append(goes[rooms[-1]][tongue.index(sign)])
+    return rooms
+
+
+def words_to(table, start, passed):
+    """For each room the least word of one sign or more that leads to it from the start; a dict.
+
+    A word leads only through rooms for which passed has True, and to such a one.
+    """
+    tongue, goes, kinds = table
+    words = {}
+    waiting = [(start, "")]
+    looked = 0
+    while looked < len(waiting):
+        room, word = waiting[looked]
+        for sign, to in zip(tongue, goes[room]):
+            if passed[to] and to not in words:
+                words[to] = word + sign
+                waiting.append((to, word + sign))
+        looked += 1
+    return words

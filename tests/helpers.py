@@ -245,6 +245,34 @@ def light_shapes(count, heaviest, seed, signs="ab"):
     return shapes[:count]
 
 
+# Books
+
+NAMES = ["one", "two", "three", "four", "five", "sixsixsi"]
+
+
+def book(*shapes, tongue="ab"):
+    return (tongue, tuple(zip(NAMES, shapes)))
+
+
+def some_books(count, seed, tongues=("a", "ab", "ba", "c\nba", "abcdef"), heaviest=10):
+    """Books of none to six rules, not all of whose signs stand in a rule, and none too heavy."""
+    source = random.Random(seed)
+    books = []
+    while len(books) < count:
+        tongue = source.choice(tongues)
+        signs = "".join(source.sample(tongue, source.randint(1, len(tongue))))
+        shapes = [some_shape(source, signs, source.randint(1, 4)) for _ in range(source.randint(0, 6))]
+        if sum(map(plain_weight, shapes)) <= heaviest and all(len(repr(shape)) < 200 for shape in shapes):
+            books.append(book(*shapes, tongue=tongue))
+    return books
+
+
+# In this book's table a room tells which of the last five signs were an a: 2 to the power of 5 rooms.
+THIRTY_TWO = book(("row", (("many", ("one", "ab")), ("one", "a"), ("times", ("one", "ab"), 4, 4))))
+# A sign that no rule has leads to one room more.
+THIRTY_THREE = ("abc", THIRTY_TWO[1])
+
+
 # Tables
 
 def some_table(source, tongue, rooms):
@@ -268,3 +296,87 @@ def walk(table, room, word):
     for sign in word:
         room = table[1][room][table[0].index(sign)]
     return room
+
+
+def grown_table(source, tongue, rooms, kinds=(-1, -1, -1, 0, 1, 5)):
+    """A table of any size, its rooms numbered anyhow."""
+    goes = [[None] * len(tongue) for _ in range(rooms)]
+    order = [0, *source.sample(range(1, rooms), rooms - 1)]
+    for at, room in enumerate(order[1:], start=1):
+        free = [(one, sign) for one in order[:at] for sign in range(len(tongue)) if goes[one][sign] is None]
+        one, sign = source.choice(free)
+        goes[one][sign] = room
+    filled = tuple(tuple(source.randrange(rooms) if to is None else to for to in row) for row in goes)
+    return tongue, filled, (-1, *[source.choice(kinds) for _ in range(rooms - 1)])
+
+
+def grown_tables(count, seed, most=6, tongues=("a", "ab", "ba", "c\na"), kinds=(-1, -1, -1, 0, 1, 5)):
+    source = random.Random(seed)
+    return [grown_table(source, source.choice(tongues), source.randint(1, most), kinds) for _ in range(count)]
+
+
+def swollen(source, table, times):
+    """A table with the same kinds in which rooms stand several times, numbered anyhow."""
+    tongue, goes, kinds = table
+    copies = [(room, copy) for room in range(len(goes)) for copy in range(times)]
+    led = {each: [(to, source.randrange(times)) for to in goes[each[0]]] for each in copies}
+    found = [(0, 0)]
+    for each in found:
+        found += [to for to in dict.fromkeys(led[each]) if to not in found]
+    order = [(0, 0), *source.sample(found[1:], len(found) - 1)]
+    rows = tuple(tuple(order.index(to) for to in led[each]) for each in order)
+    return tongue, rows, tuple(kinds[room] for room, copy in order)
+
+
+def plain_ways(table):
+    """For each room the least word that leads to it: all words in their order, but none behind one that leads back."""
+    tongue, goes, kinds = table
+    ways, layer = {0: ""}, [""]
+    while layer:
+        longer = [word + sign for word in layer for sign in tongue]
+        layer = [word for word in longer if ways.setdefault(walk(table, 0, word), word) == word]
+    return tuple(ways[room] for room in range(len(goes)))
+
+
+def plain_alike(table):
+    """The pairs of rooms, in either order, that no word parts: those that are left when all that are parted are out."""
+    tongue, goes, kinds = table
+    pairs = {(one, other) for one in range(len(goes)) for other in range(len(goes)) if kinds[one] == kinds[other]}
+    while True:
+        left = {(one, other) for one, other in pairs if all(each in pairs for each in zip(goes[one], goes[other]))}
+        if left == pairs:
+            return pairs
+        pairs = left
+
+
+def is_least(table):
+    return len(plain_alike(table)) == len(table[1])
+
+
+def is_numbered_by_words(table):
+    """Whether the least words that lead to the rooms come in the rooms' order."""
+    places = [(len(word), [table[0].index(sign) for sign in word]) for word in plain_ways(table)]
+    return places == sorted(places)
+
+
+def plain_first(table, text, at):
+    """The first piece, by trying all stretches from the longest on."""
+    for end in range(len(text), at, -1):
+        kind = table[2][walk(table, 0, text[at:end])]
+        if kind != -1:
+            return kind, end
+    return None
+
+
+def plain_cut(table, text):
+    pieces = []
+    while True:
+        place = pieces[-1][2] if pieces else 0
+        found = plain_first(table, text, place)
+        if found is None:
+            return pieces, place
+        pieces.append((found[0], place, found[1]))
+
+
+def some_text(source, tongue, size):
+    return "".join(source.choice(tongue) for _ in range(size))

@@ -9,19 +9,14 @@ from nearreach.errors import NoBook, NoPlace, TooHeavy
 from nearreach.shapes import weight
 from nearreach.spreads import behind, spread, stands
 from tests.helpers import (
-    EqualToAll, changed, either, is_kept, light_shapes, many, odd_things, one, plain_depth, row, signs_of_places, times,
-    words_upto,
+    NAMES, EqualToAll, book, changed, either, is_kept, light_shapes, many, odd_things, one, plain_depth, row,
+    signs_of_places, times, words_upto,
 )
 
 A, B = one("a"), one("b")
-NAMES = ["one", "two", "three", "four", "five", "sixsixsi"]
 FIVE = row(*[A] * 5)
 SIX = ("ab", tuple((name, A) for name in NAMES))
 NONE = ("ab", ())
-
-
-def book(*shapes, tongue="ab"):
-    return (tongue, tuple(zip(NAMES, shapes)))
 
 
 def rule_book(*rules, tongue="ab"):
