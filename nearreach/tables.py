@@ -43,7 +43,8 @@ def rooms_led_to(goes):
     seen = {0: True}
     looked = 0
     while looked < len(found):
-        for room in goes[found[looked]]:
+        row = goes[found[looked]]
+        for room in row:
             if room not in seen:
                 seen[room] = True
                 found.append(room)

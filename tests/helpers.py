@@ -380,3 +380,44 @@ def plain_cut(table, text):
 
 def some_text(source, tongue, size):
     return "".join(source.choice(tongue) for _ in range(size))
+
+
+# The reach
+
+# Each room leads to the next one, the last to the first, and one alone has a kind: no table has a greater reach.
+FARTHEST = ("a", tuple(((room + 1) % 32,) for room in range(32)), (-1, 0) + (-1,) * 30)
+# Behind an a come b as often as one likes and then c.
+ENDLESS = ("abc", ((1, 3, 3), (3, 2, 3), (3, 2, 4), (3, 3, 3), (3, 3, 3)), (-1, 0, -1, -1, 1))
+
+
+def plain_steps(table, longest):
+    """The steps (room behind u, z) whose z has at most so many signs, by trying all words z."""
+    tongue, goes, kinds = table
+    for room in range(len(goes)):
+        if kinds[room] == -1:
+            continue
+        for word in words_upto(tongue, longest)[1:]:
+            met = [kinds[walk(table, room, word[:end])] != -1 for end in range(1, len(word) + 1)]
+            if met[-1] and not any(met[:-1]):
+                yield room, word
+
+
+def plain_reach(table, rooms):
+    """The reach asked where the first piece ends in one of the rooms; for small tables.
+
+    A z that has more signs than there are rooms goes through a room twice, and so may be ever longer; and where there
+    are such, some have at most twice as many signs as there are rooms.
+    """
+    most = max([len(word) for room, word in plain_steps(table, 2 * len(table[1])) if room in rooms], default=0)
+    return None if most > len(table[1]) else most
+
+
+def small_tables(count, seed, most=4):
+    """Tables for which all short words can be tried, many of which have a reach."""
+    return grown_tables(count, seed, most=most, tongues=("a", "ab", "ba"), kinds=(-1, -1, 0, 1))
+
+
+def some_parts(source, text):
+    """The text in parts, some of them without signs."""
+    places = sorted(source.randint(0, len(text)) for _ in range(source.randint(0, len(text) + 2)))
+    return [text[low:high] for low, high in zip([0, *places], [*places, len(text)])]

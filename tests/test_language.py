@@ -166,6 +166,24 @@ class LanguageTest(unittest.TestCase):
                 if isinstance(node, ast.Call) and isinstance(node.func, ast.Attribute):
                     self.assertIn(node.func.attr, METHODS | own, node.lineno)
 
+    def test_attributes(self):
+        trees = [ast.parse(path.read_text(encoding="utf-8")) for path in FILES]
+        classes = [each for tree in trees for each in tree.body if isinstance(each, ast.ClassDef)]
+        methods = {node.name for each in classes for node in each.body if isinstance(node, ast.FunctionDef)}
+        read = [node for tree in trees for node in ast.walk(tree) if isinstance(node, ast.Attribute)]
+        assigned = {node.attr for node in read if not isinstance(node.ctx, ast.Load)}
+        self.assertFalse(assigned & methods)
+        for node in read:
+            self.assertIn(node.attr, assigned | methods | METHODS | {"__init__"}, node.lineno)
+        taken = {name for value in ("", 1, [], {}, set(), b"") for name in dir(value) if not name.startswith("__")}
+        self.assertFalse((assigned | methods) & taken)
+        for each in classes:
+            names = [node.name for node in each.body if isinstance(node, ast.FunctionDef)]
+            self.assertEqual(len(set(names)), len(names))
+            self.assertLessEqual(len(each.bases), 1)
+            for node in each.body:
+                self.assertIsInstance(node, (ast.FunctionDef, ast.Expr))
+
     def test_iterated_at_once(self):
         for path, text, tree in self.each():
             above = parents(tree)
