@@ -2,7 +2,7 @@
 
 from nearreach.endings import takes
 from nearreach.errors import NoBook, NoPlace, TooHeavy
-from nearreach.plain import is_number, is_row
+from nearreach.plain import is_number, is_row, rising
 from nearreach.shapes import HEAVIEST, is_shape, parts_of, weight
 from nearreach.spreads import patch_of_one, patch_rows, patches_of
 from nearreach.tongues import is_text, is_tongue
@@ -64,10 +64,15 @@ def book_spread(book):
     return (signs, tuple(owners), nexts, lasts)
 
 
+def crowd_takers(spread, crowd):
+    """The rising numbers of the rules that take a crowd's words, in a book's spread; none for the crowd (0,)."""
+    signs, owners, nexts, lasts = spread
+    return rising([owners[place] for place in crowd if place != 0 and place in lasts])
+
+
 def crowd_kind(spread, crowd):
     """The kind of a crowd in a book's spread."""
-    signs, owners, nexts, lasts = spread
-    return min([owners[place] for place in crowd if place != 0 and place in lasts], default=-1)
+    return min(crowd_takers(spread, crowd), default=-1)
 
 
 def with_rule(book, at, rule):

@@ -47,3 +47,30 @@ def is_same(thing, told):
     if not is_row(thing, len(told), len(told)):
         return False
     return all([is_same(one, other) for one, other in zip(thing, told)])
+
+
+def are_pairs(thing, ones, others):
+    """True just where thing, whatever it is, is a tuple of pairs: a number from 0 below ones, and one below others."""
+    if not isinstance(thing, tuple) or not all([is_row(pair, 2, 2) for pair in thing]):
+        return False
+    return all([is_number_from(one, 0, ones - 1) and is_number_from(other, 0, others - 1) for one, other in thing])
+
+
+def least_words(tongue, start, led):
+    """For each thing to which words lead from the start the least such word; a dict in the order of these words.
+
+    led tells to which things the tongue's signs lead from a thing, in their order.
+    """
+    # Things are looked at in the order of the least words to them, so the first word found is the least.
+    words = {start: ""}
+    waiting = [start]
+    looked = 0
+    while looked < len(waiting):
+        thing = waiting[looked]
+        nexts = led(thing)
+        for sign, to in zip(tongue, nexts):
+            if to not in words:
+                words[to] = words[thing] + sign
+                waiting.append(to)
+        looked += 1
+    return words

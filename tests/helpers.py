@@ -1,6 +1,7 @@
 """What the tests share: odd things, changed things, and slow plain reckonings to compare with."""
 
 import copy
+import functools
 import random
 import re
 
@@ -72,6 +73,24 @@ def is_kept(test, call, *things):
     first = call(*things)
     test.assertEqual(repr(first), repr(call(*things)))
     test.assertEqual(repr(before), repr(things))
+
+
+def is_own(test, call, *things):
+    """A told list that is changed alters no later answer; the lists may stand anywhere in what is told."""
+
+    def spoil(thing):
+        if isinstance(thing, tuple):
+            return sum(map(spoil, thing))
+        if not isinstance(thing, list):
+            return 0
+        thing.append(None)
+        thing[0] = "spoilt"
+        return 1
+
+    first = call(*things)
+    kept = repr(first)
+    test.assertGreater(spoil(first), 0)
+    test.assertEqual(repr(call(*things)), kept)
 
 
 # Shapes
@@ -267,6 +286,48 @@ def some_books(count, seed, tongues=("a", "ab", "ba", "c\nba", "abcdef"), heavie
     return books
 
 
+def plain_is_book(thing):
+    """Whether a thing is a book, without a look at how big it is."""
+    if not (type(thing) is tuple and len(thing) == 2 and plain_depth(("one", thing[0])) and type(thing[1]) is tuple):
+        return False
+    for rule in thing[1]:
+        if not (type(rule) is tuple and len(rule) == 2 and type(rule[0]) is str and plain_depth(rule[1])):
+            return False
+        if not re.fullmatch("[a-z]{1,8}", rule[0]) or not set("".join(signs_of_places(rule[1]))) <= set(thing[0]):
+            return False
+    return len(dict(thing[1])) == len(thing[1]) <= 6
+
+
+def small_books(count, seed, tongues=("a", "ab", "ba"), heaviest=5):
+    """Books whose tables are small, with names that aren't always in the same order."""
+    source = random.Random(seed)
+    books = []
+    for tongue, rules in some_books(count, seed, tongues=tongues, heaviest=heaviest):
+        names = source.sample(["x", "y", "z", "u", "v", "w"], len(rules))
+        books.append((tongue, tuple((name, shape) for name, (old, shape) in zip(names, rules))))
+    return books
+
+
+@functools.lru_cache(maxsize=None)
+def tried_kind(book, word):
+    """The kind by trying the rules, each by putting words together."""
+    for number, (name, shape) in enumerate(book[1]):
+        if word != "" and word in stretches_taken(shape, word):
+            return number
+    return -1
+
+
+def tried_cut(book, text):
+    """The cut by names, by trying the rules at each place."""
+    pieces = []
+    while True:
+        place = pieces[-1][2] if pieces else 0
+        ends = [end for end in range(len(text), place, -1) if tried_kind(book, text[place:end]) != -1]
+        if not ends:
+            return pieces, place
+        pieces.append((book[1][tried_kind(book, text[place:ends[0]])][0], place, ends[0]))
+
+
 # In this book's table a room tells which of the last five signs were an a: 2 to the power of 5 rooms.
 THIRTY_TWO = book(("row", (("many", ("one", "ab")), ("one", "a"), ("times", ("one", "ab"), 4, 4))))
 # A sign that no rule has leads to one room more.
@@ -298,6 +359,21 @@ def walk(table, room, word):
     return room
 
 
+def plain_is_table(thing):
+    """Whether a thing is a table of the tongue ab, by its text and the words that lead through it."""
+    if not (type(thing) is tuple and len(thing) == 3 and type(thing[1]) is tuple and repr(thing[0]) == "'ab'"):
+        return False
+    rooms = len(thing[1])
+    texts = [repr((one, other)) for one in range(rooms) for other in range(rooms)]
+    if not 1 <= rooms <= 32 or not all(repr(each) in texts for each in thing[1]):
+        return False
+    if not (type(thing[2]) is tuple and len(thing[2]) == rooms and repr(thing[2][0]) == "-1"):
+        return False
+    if not all(repr(kind) in ("-1", "0", "1", "2", "3", "4", "5") for kind in thing[2]):
+        return False
+    return len({walk(thing, 0, word) for word in words_upto("ab", rooms)}) == rooms
+
+
 def grown_table(source, tongue, rooms, kinds=(-1, -1, -1, 0, 1, 5)):
     """A table of any size, its rooms numbered anyhow."""
     goes = [[None] * len(tongue) for _ in range(rooms)]
@@ -326,6 +402,14 @@ def swollen(source, table, times):
     order = [(0, 0), *source.sample(found[1:], len(found) - 1)]
     rows = tuple(tuple(order.index(to) for to in led[each]) for each in order)
     return tongue, rows, tuple(kinds[room] for room, copy in order)
+
+
+def renumbered(source, table):
+    """The table with its rooms, but room 0, numbered otherwise."""
+    tongue, goes, kinds = table
+    order = [0, *source.sample(range(1, len(goes)), len(goes) - 1)]
+    return tongue, tuple(tuple(order.index(to) for to in goes[room]) for room in order), tuple(
+        kinds[room] for room in order)
 
 
 def plain_ways(table):
@@ -421,3 +505,44 @@ def some_parts(source, text):
     """The text in parts, some of them without signs."""
     places = sorted(source.randint(0, len(text)) for _ in range(source.randint(0, len(text) + 2)))
     return [text[low:high] for low, high in zip([0, *places], [*places, len(text)])]
+
+
+# Machines
+
+DEEDS = [("stay",), ("shut",), ("open", 0), ("turn", 0), ("open", 1), ("turn", 1), ("open", 2), ("turn", 2)]
+
+
+def some_machines(count, seed, most=4, tongues=("a", "ab", "ba"), kinds=(-1, 0, 1, 2)):
+    """Machines of one to three modes with all deeds."""
+    source = random.Random(seed)
+    machines = []
+    for _ in range(count):
+        tongue, modes = source.choice(tongues), source.randint(1, 3)
+        tables = [grown_table(source, tongue, source.randint(1, most), kinds) for _ in range(modes)]
+        machines.append((tongue, tuple(
+            (goes, ends, tuple(source.choice(DEEDS[:2 + 2 * modes]) for _ in range(3))) for _, goes, ends in tables)))
+    return machines
+
+
+def plain_moded(machine, start, text):
+    """The moded cut by the document's words, with the partners."""
+    tongue, modes = machine
+    pieces, pile, openers, partners = [], [start], [], []
+    while True:
+        place = pieces[-1][3] if pieces else 0
+        mode = pile[-1]
+        found = plain_first((tongue, *modes[mode][:2]), text, place)
+        if found is None:
+            return (pieces, place, "end" if place == len(text) else "none", tuple(pile)), partners
+        word, *target = modes[mode][2][found[0]]
+        if word == "shut" and len(pile) == 1:
+            return (pieces, place, "low", tuple(pile)), partners
+        if word in ("turn", "shut"):
+            del pile[-1]
+        if word in ("turn", "open"):
+            pile += target
+        if word == "open":
+            openers.append(len(pieces))
+        if word == "shut":
+            partners.append((openers.pop(), len(pieces)))
+        pieces.append((mode, found[0], place, found[1]))

@@ -1,4 +1,3 @@
-import re
 import unittest
 
 from nearreach.books import (
@@ -9,8 +8,8 @@ from nearreach.errors import NoBook, NoPlace, TooHeavy
 from nearreach.shapes import weight
 from nearreach.spreads import behind, spread, stands
 from tests.helpers import (
-    NAMES, EqualToAll, book, changed, either, is_kept, light_shapes, many, odd_things, one, plain_depth, row,
-    signs_of_places, times, words_upto,
+    NAMES, EqualToAll, book, changed, either, is_kept, light_shapes, many, odd_things, one, plain_is_book, row, times,
+    words_upto,
 )
 
 A, B = one("a"), one("b")
@@ -21,18 +20,6 @@ NONE = ("ab", ())
 
 def rule_book(*rules, tongue="ab"):
     return (tongue, rules)
-
-
-def plain_is_book(thing):
-    """Whether a thing is a book, without a look at how big it is."""
-    if not (type(thing) is tuple and len(thing) == 2 and plain_depth(("one", thing[0])) and type(thing[1]) is tuple):
-        return False
-    for rule in thing[1]:
-        if not (type(rule) is tuple and len(rule) == 2 and type(rule[0]) is str and plain_depth(rule[1])):
-            return False
-        if not re.fullmatch("[a-z]{1,8}", rule[0]) or not set("".join(signs_of_places(rule[1]))) <= set(thing[0]):
-            return False
-    return len(dict(thing[1])) == len(thing[1]) <= 6
 
 
 SPOILT = [

@@ -2,7 +2,7 @@ import unittest
 
 from nearreach.errors import NoTable, NoText
 from nearreach.tables import is_table, kind_of, looked_table, room_of
-from tests.helpers import changed, is_kept, odd_things, some_tables, walk, words_upto
+from tests.helpers import changed, is_kept, odd_things, plain_is_table, some_tables, walk, words_upto
 
 ONE = ("a", ((0,),), (-1,))
 TWO = ("ab", ((1, 0), (0, 1)), (-1, 5))
@@ -39,21 +39,6 @@ SPOILT = [
     # Things too many or too few.
     ("a", ((0,),)), ("a", ((0,),), (-1,), ()), (),
 ]
-
-
-def plain_is_table(thing):
-    """Whether a thing is a table of the tongue ab, by its text and the words that lead through it."""
-    if not (type(thing) is tuple and len(thing) == 3 and type(thing[1]) is tuple and repr(thing[0]) == "'ab'"):
-        return False
-    rooms = len(thing[1])
-    texts = [repr((one, other)) for one in range(rooms) for other in range(rooms)]
-    if not 1 <= rooms <= 32 or not all(repr(each) in texts for each in thing[1]):
-        return False
-    if not (type(thing[2]) is tuple and len(thing[2]) == rooms and repr(thing[2][0]) == "-1"):
-        return False
-    if not all(repr(kind) in ("-1", "0", "1", "2", "3", "4", "5") for kind in thing[2]):
-        return False
-    return len({walk(thing, 0, word) for word in words_upto("ab", rooms)}) == rooms
 
 
 class IsTableTest(unittest.TestCase):
