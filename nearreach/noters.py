@@ -79,6 +79,10 @@ class Noter(Reader):
         told.append((kind, self.start, end))
         self.begin(end)
 
+    def fault(self):
+        """The fault's place where it is stopped, else None."""
+        return self.stopped_at()
+
     def kept(self):
         """The signs that were fed behind the longest stretch with a kind."""
         # One that is closed or stopped has nothing found either.

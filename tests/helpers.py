@@ -5,6 +5,8 @@ import functools
 import random
 import re
 
+from nearreach.making import table_of
+
 
 class EqualToAll:
     """A thing that says it is equal to everything, and so must be caught by its kind."""
@@ -286,6 +288,14 @@ def some_books(count, seed, tongues=("a", "ab", "ba", "c\nba", "abcdef"), heavie
     return books
 
 
+def signs_within(shape):
+    """All signs of a shape, also of parts that stand there no times."""
+    if shape[0] == "one":
+        return set(shape[1])
+    parts = shape[1] if shape[0] in ("row", "either") else [shape[1]]
+    return set().union(*map(signs_within, parts))
+
+
 def plain_is_book(thing):
     """Whether a thing is a book, without a look at how big it is."""
     if not (type(thing) is tuple and len(thing) == 2 and plain_depth(("one", thing[0])) and type(thing[1]) is tuple):
@@ -293,7 +303,7 @@ def plain_is_book(thing):
     for rule in thing[1]:
         if not (type(rule) is tuple and len(rule) == 2 and type(rule[0]) is str and plain_depth(rule[1])):
             return False
-        if not re.fullmatch("[a-z]{1,8}", rule[0]) or not set("".join(signs_of_places(rule[1]))) <= set(thing[0]):
+        if not re.fullmatch("[a-z]{1,8}", rule[0]) or not signs_within(rule[1]) <= set(thing[0]):
             return False
     return len(dict(thing[1])) == len(thing[1]) <= 6
 
@@ -521,6 +531,19 @@ def some_machines(count, seed, most=4, tongues=("a", "ab", "ba"), kinds=(-1, 0, 
         tables = [grown_table(source, tongue, source.randint(1, most), kinds) for _ in range(modes)]
         machines.append((tongue, tuple(
             (goes, ends, tuple(source.choice(DEEDS[:2 + 2 * modes]) for _ in range(3))) for _, goes, ends in tables)))
+    return machines
+
+
+def book_machines(count, seed):
+    """Machines of one to three modes, each the table of a book with few rooms, many of which have no hope."""
+    source = random.Random(seed)
+    tables = [table_of(each) for each in small_books(8 * count, seed, tongues=("ab",), heaviest=4)]
+    tables = [table for table in tables if 2 < len(table[1]) <= 5]
+    machines = []
+    for _ in range(count):
+        modes = source.randint(1, 3)
+        machines.append(("ab", tuple((*source.choice(tables)[1:], tuple(
+            source.choice(DEEDS[:2 + 2 * modes]) for _ in range(6))) for _ in range(modes))))
     return machines
 
 

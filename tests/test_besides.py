@@ -112,7 +112,8 @@ class BesideTest(unittest.TestCase):
 
 class FollowersTest(unittest.TestCase):
     def test_by_hand(self):
-        self.assertEqual(SOME, ("ab", ((1, 2), (3, 4), (4, 4), (5, 6), (4, 4), (5, 4), (4, 4)), (-1, 0, 1, 0, -1, 0, 2)))
+        self.assertEqual(SOME, ("ab", ((1, 2), (3, 4), (4, 4), (5, 6), (4, 4), (5, 4), (4, 4)),
+                                (-1, 0, 1, 0, -1, 0, 2)))
         self.assertEqual(followers(SOME, 0), ((4, 2), (4, 4)))
         self.assertEqual(followers(SOME, 1), ((4, 1), (4, 2), (4, 3), (4, 4), (4, 5), (4, 6)))
         self.assertEqual(followers(SOME, 3), ())

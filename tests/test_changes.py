@@ -279,7 +279,8 @@ class ExchangeTest(unittest.TestCase):
             ((A, B), 0, True), ((A, AB), 0, False), ((A, A), 0, False), ((row(), row()), 0, True),
             ((many(A), many(B)), 0, True), ((A, many(A)), 0, False), ((B, A, A), 1, False),
             # A third rule ahead takes all that both take, or not all of it.
-            ((A, AB, A), 1, True), ((A, AB, AB), 1, False), ((A, B, AB, AB), 2, True), ((many(AB), A, many(A)), 1, True),
+            ((A, AB, A), 1, True), ((A, AB, AB), 1, False), ((A, B, AB, AB), 2, True),
+            ((many(AB), A, many(A)), 1, True),
             ((many(A), AB, row(many(A), B)), 1, False),
             # One behind them doesn't matter.
             ((A, AB, many(AB)), 0, False), ((A, B, AB), 0, True), ((A, B, AB), 1, False),

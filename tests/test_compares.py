@@ -222,7 +222,8 @@ class UnlikeTest(unittest.TestCase):
             (TURNS, ("ba", ((1, 1), (0, 0)), (-1, 0))), (("ba", ((0, 0),), (-1,)), STILL),
             (STILL, ("a", ((0,),), (-1,))), (STILL, ("abc", ((0, 0, 0),), (-1,))), (STILL, ("cd", ((0, 0),), (-1,))),
         ]:
-            for call in [lambda: parted(one, other), lambda: pairs(one, other), lambda: pairs_hold(one, other, ((0, 0),)),
+            for call in [lambda: parted(one, other), lambda: pairs(one, other),
+                         lambda: pairs_hold(one, other, ((0, 0),)),
                          lambda: pairs_hold(one, other, None), lambda: pairs_hold(one, other, [EqualToAll()])]:
                 with self.assertRaises(Unlike):
                     call()

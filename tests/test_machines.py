@@ -79,7 +79,8 @@ class LookedTest(unittest.TestCase):
             (STAY, STAY, ("turn",)), (STAY, STAY, ("stay", 0)), (STAY, STAY, ("shut", 0)), (STAY, STAY, ("open", 1)),
             (STAY, STAY, ("open", -1)), (STAY, STAY, ("turn", 1)), (STAY, STAY, ("open", False)),
             (STAY, STAY, ("open", None)), (STAY, STAY, ("open", 0, 0)), (STAY, STAY, ("open", "0")),
-            (STAY, STAY, (b"stay",)), (STAY, STAY, ("Stay",)), (STAY, STAY, EqualToAll()), (STAY, STAY, (EqualToAll(),)),
+            (STAY, STAY, (b"stay",)), (STAY, STAY, ("Stay",)), (STAY, STAY, EqualToAll()),
+            (STAY, STAY, (EqualToAll(),)),
             (STAY, STAY, ("open", EqualToAll())), (STAY, STAY, (EqualToAll(), 0)), None, STAY,
         ]:
             with self.assertRaises(NoModes, msg=repr(deeds)):
@@ -91,7 +92,8 @@ class LookedTest(unittest.TestCase):
             ("ab", (list(STILL[1][0]),)), ("ab", (STILL[1][0][:2],)), ("ab", ((*STILL[1][0], ()),)), ("ba", None),
             ("a", STILL[1]), ("abc", STILL[1]), ("aa", STILL[1]), ("", STILL[1]), (None, STILL[1]),
             ("ab", ((mode[0], (0, 1), mode[2]),)), ("ab", ((mode[0], (-1, 6), (STAY,) * 6),)), ("ab", (mode, None)),
-            ("ab", (mode,)), ("ab", (STILL[1][0], ((((True, 0),), (-1,), ())))), ("ab", ((((0, 0), (0, 0)), (-1, -1), ()),)),
+            ("ab", (mode,)), ("ab", (STILL[1][0], ((((True, 0),), (-1,), ())))),
+            ("ab", ((((0, 0), (0, 0)), (-1, -1), ()),)),
             ("ab", ((((True, 0), (0, 1)), (-1, 1), (STAY, STAY)),)), (("ab",), STILL[1]), (EqualToAll(), STILL[1]),
             ("ab", ((((1, 0), (0, 1)), (-1, True), (STAY, STAY)),)), ("ab", STILL[1][0]), ("ab", EqualToAll()), (),
         ]:
@@ -131,7 +133,9 @@ class LookedTest(unittest.TestCase):
 class MachineTest(unittest.TestCase):
     def test_by_hand(self):
         self.assertEqual(machine_of(ONE_MODE), STILL)
-        self.assertEqual(machine_of(("ab", ((("x", A, SHUT),),))), ("ab", ((((1, 2), (2, 2), (2, 2)), (-1, 0, -1), (SHUT,)),)))
+        self.assertEqual(machine_of(("ab", ((("x", A, SHUT),),))), ("ab",
+                                                                    ((((1, 2), (2, 2), (2, 2)), (-1, 0, -1), (SHUT,)),
+                                                                     )))
         machine = machine_of(FOUR)
         self.assertIs(looked_machine(machine), machine)
         self.assertEqual([mode[2] for mode in machine[1]], [
@@ -164,7 +168,8 @@ class MachineTest(unittest.TestCase):
     def test_no_moded_books(self):
         for thing in [
             ("ab", ()), ("ab", ((),) * 5), ("ab", [()]), ["ab", ((),)], ("ab", ([],)), ("ab",), ("ab", ((),), ()), (),
-            ("", ((),)), ("aa", ((),)), (None, ((),)), (["ab"], ((),)), ("ab", None), ("ab", (None,)), ("ab", ((), None)),
+            ("", ((),)), ("aa", ((),)), (None, ((),)), (["ab"], ((),)), ("ab", None), ("ab", (None,)),
+            ("ab", ((), None)),
             ("ab", ((("x", one("c"), STAY),),)), ("ab", ((), (("x", one("ac"), STAY),))), ("a", FOUR[1]),
             ("ab", ((("x", A),),)), ("ab", ((("x", A, STAY, STAY),),)), ("ab", ((["x", A, STAY],),)),
             ("ab", ((("x", A, ("open", 1)),),)), ("ab", ((("x", A, ("turn", -1)),),)), ("ab", ((("x", A, "stay"),),)),
@@ -243,7 +248,8 @@ class ReachTest(unittest.TestCase):
         one_mode = (("x", many(A), SHUT),)
         for modes, reaches, told in [
             ((three,), (3,), 3), ((one_mode, three), (1, 3), 3), ((three, one_mode, ()), (3, 1, 0), 3),
-            ((endless,), (None,), None), ((endless, three), (None, 3), None), ((three, endless, ()), (3, None, 0), None),
+            ((endless,), (None,), None), ((endless, three), (None, 3), None),
+            ((three, endless, ()), (3, None, 0), None),
             (((), (), (), ()), (0, 0, 0, 0), 0),
         ]:
             machine = machine_of(("ab", modes))

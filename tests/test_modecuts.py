@@ -5,7 +5,8 @@ from nearreach.errors import NoText
 from nearreach.machines import machine_of
 from nearreach.modecuts import moded_cut, partners
 from tests.helpers import (
-    EqualToAll, is_kept, is_own, many, odd_things, one, plain_moded, row, some_machines, some_text, words_upto,
+    EqualToAll, book_machines, is_kept, is_own, many, odd_things, one, plain_moded, row, some_machines, some_text,
+    words_upto,
 )
 
 A, B, C, D = one("a"), one("b"), one("c"), one("d")
@@ -38,7 +39,8 @@ class CutTest(unittest.TestCase):
             (0, "bdab", ([(0, 1, 0, 1), (1, 3, 1, 2), (2, 0, 2, 4)], 4, "end", (0, 2))),
             (0, "bdda", ([(0, 1, 0, 1), (1, 3, 1, 2), (2, 1, 2, 3), (0, 0, 3, 4)], 4, "end", (0,))),
             # A piece that would shut the last mode isn't taken.
-            (0, "d", ([], 0, "low", (0,))), (1, "b", ([], 0, "low", (1,))), (2, "abd", ([(2, 0, 0, 2)], 2, "low", (2,))),
+            (0, "d", ([], 0, "low", (0,))), (1, "b", ([], 0, "low", (1,))),
+            (2, "abd", ([(2, 0, 0, 2)], 2, "low", (2,))),
             (0, "aada", ([(0, 0, 0, 1), (0, 0, 1, 2)], 2, "low", (0,))),
             (0, "cd", ([(0, 2, 0, 1)], 1, "low", (2,))),
             (0, "bbd", ([(0, 1, 0, 1), (1, 0, 1, 2)], 2, "low", (0,))),
@@ -62,7 +64,7 @@ class CutTest(unittest.TestCase):
     def test_some_machines(self):
         source = random.Random(251)
         whys, deepest, pairs = {}, 0, 0
-        for machine in some_machines(250, seed=251) + [MACHINE, PILES]:
+        for machine in some_machines(250, seed=251) + book_machines(60, seed=251) + [MACHINE, PILES]:
             texts = words_upto(machine[0], 3) + [some_text(source, machine[0], source.randint(4, 30)) for _ in range(5)]
             for text in texts:
                 for start in range(len(machine[1])):
